@@ -1,0 +1,1 @@
+"""Sumtold: sums of all, told over a web."""
