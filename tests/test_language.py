@@ -101,6 +101,42 @@ class ModuleTest(unittest.TestCase):
                 self.assertIn(alias.name, defined + assigned, name)
 
 
+    def test_no_two_files_import_from_each_other(self):
+        ahead = {file.stem: set() for file in files()}
+        for name, node in nodes(ast.ImportFrom):
+            ahead[name[:-3]].add(node.module.split(".")[1])
+        done = set()
+        while len(done) < len(ahead):
+            ready = {stem for stem in ahead if stem not in done and ahead[stem] <= done}
+            self.assertTrue(ready, set(ahead) - done)
+            done |= ready
+
+
+class ClassTest(unittest.TestCase):
+    def classes(self):
+        return [node for name, node in nodes(ast.ClassDef)]
+
+    def methods(self):
+        return {row.name for node in self.classes() for row in node.body if isinstance(row, ast.FunctionDef)}
+
+    def attributes(self, kind):
+        return {node.attr for name, node in nodes(ast.Attribute) if isinstance(node.ctx, kind)}
+
+    def test_no_name_is_a_method_and_an_attribute(self):
+        self.assertEqual(self.methods() & self.attributes(ast.Store), set())
+
+    def test_attributes_that_are_read_are_assigned_by_a_class(self):
+        assigned = {
+            node.attr for top in self.classes() for node in ast.walk(top)
+            if isinstance(node, ast.Attribute) and isinstance(node.ctx, ast.Store)
+        }
+        self.assertEqual(self.attributes(ast.Load) - assigned - self.methods() - METHODS, set())
+
+    def test_names_that_builtin_values_have_are_not_used(self):
+        barred = {name for kind in (str, int, list, dict, set, bytes) for name in dir(kind) if name[0] != "_"}
+        self.assertEqual((self.methods() | self.attributes(ast.Store)) & barred, set())
+
+
 class RowTest(unittest.TestCase):
     def test_functions_are_short(self):
         for name, node in nodes(ast.FunctionDef):
