@@ -257,6 +257,12 @@ class ChangeTest(unittest.TestCase):
         self.assertEqual(hand.roll()[0], ("a", 1, 3, (45,), tuple(OTHERS)))
         self.assertEqual(len(hand.roll()), 3)
 
+    def test_the_own_entry_is_written_anew_whatever_was_heard(self):
+        hand = Hand("a", (5,), ["b"])
+        hand.take(letter("b", roll=(entry("a", "b", 1, 9), entry("b", "a"))))
+        hand.set_own((6,))
+        self.assertEqual(hand.roll(), (entry("a", "b", 1, 2, (6,)), entry("b", "a")))
+
     def test_a_tie_taken_up(self):
         hand = Hand("m", (5,), ["z"])
         self.assertIsNone(hand.tie("b"))

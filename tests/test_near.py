@@ -5,7 +5,7 @@ import unittest
 from fractions import Fraction
 
 from sumtold.errors import BadWeb, NoDeed, NoNear
-from sumtold.near import check_near
+from sumtold.near import Look, check_near, walk_part
 from sumtold.rounds import rounds
 from sumtold.run import Run
 from tests.odd import odd_things
@@ -138,6 +138,20 @@ class PaperTest(NearTest):
             self.wrong((place, 8, GO), (0, place, GO))
             self.wrong((0, place, [("a", "a", ()), ("a", "b", ()), ("b", "a", ()), ("b", "b", ())]))
 
+    def test_places_that_are_not_quiet_though_the_walks_are_right(self):
+        self.assertEqual(quiet_places(PAIR, THREE_ROUNDS), [0, 1, 2, 3, 4, 8, 12])
+        self.wrong((0, 9, GO), (0, 10, GO), (0, 11, GO), deeds=THREE_ROUNDS)
+        for place in (5, 6, 7):
+            self.wrong((place, 12, SECOND[2]), deeds=THREE_ROUNDS)
+        self.assertEqual(check_near(PAIR, THREE_ROUNDS, [(4, 12, SECOND[2])]), (3, 4))
+
+    def test_begin_below_end(self):
+        web = ([("a", (5,))], [])
+        walks = [("a", "a", ())]
+        deeds = [("turn", "a")] * 2
+        self.wrong((0, 0, walks), (1, 1, walks), (2, 2, walks), (2, 1, walks), web=web, deeds=deeds)
+        self.assertEqual(check_near(web, deeds, [(0, 1, walks), (1, 2, walks)]), (0, 1))
+
     def test_spells_behind_one_another(self):
         walks = SECOND[2]
         self.wrong_behind((4, 12, walks), (0, 12, walks), SPELL, (0, 8, GO), (12, 12, walks))
@@ -215,13 +229,37 @@ class StepTest(NearTest):
         deeds = TWO_ROUNDS[:7]
         self.wrong((0, 7, GO), (4, 7, GO), deeds=deeds)
 
+    def test_a_gift_of_another_tie_does_not_bring_a_walk(self):
+        # Gone from b to a by turn 4, it is not at a till deed 8, though c takes b's gift of this turn at deed 5.
+        deeds = [("turn", "a"), ("come", 0), ("turn", "c"), ("come", 1), ("turn", "b"), ("come", 3), ("turn", "a"),
+                 ("come", 4), ("come", 2)]
+        look = Look(CHAIN, deeds)
+        self.assertEqual(walk_part(look, (0, 9), ("b", "a"), ((4, "a"),)), (1, 4))
+        self.assertEqual(walk_part(look, (0, 9), ("b", "c"), ((4, "c"),)), (1, 4))
+        self.assertIsNone(walk_part(look, (0, 9), ("b", "b"), ((4, "a"), (6, "b"))))
+
+    def test_the_part_of_each_walk(self):
+        many = 0
+        for seed in range(40):
+            rng = random.Random(f"walks {seed}")
+            web, deeds = random_run(rng, rng.randint(2, 4), 22)
+            look = Look(web, deeds)
+            quiet = quiet_places(web, deeds)
+            begin, end = rng.choice(quiet[:4]), quiet[-1]
+            table = walks_between(web, deeds, begin, end)
+            for ends, walks in table.items():
+                for part, steps in walks[:60]:
+                    many += 1
+                    self.assertEqual(walk_part(look, (begin, end), ends, steps), (part.numerator, part.denominator))
+        self.assertGreater(many, 500)
+
     def test_all_steps_that_there_are(self):
         """Of small runs each tuple of up to two steps is let by just where it is a walk."""
         let_by = 0
         for seed in range(20):
             rng = random.Random(f"steps {seed}")
-            web, deeds = random_run(rng, 2, 9)
-            for end in quiet_places(web, deeds)[1:]:
+            web, deeds = random_run(rng, rng.randint(2, 3), 14)
+            for end in quiet_places(web, deeds)[-2:]:
                 table = walks_between(web, deeds, 0, end)
                 if not all(table.values()):
                     continue
@@ -287,7 +325,7 @@ class RefusalTest(NearTest):
 
 
 def random_run(rng, many_hands, many_deeds):
-    """A whole web and turns and comings in it; letters come mostly soon, so that there are quiet places."""
+    """A whole web and turns and comings in it; the last letter of each way comes in the end, so that is quiet."""
     web = random_web(rng, many_hands, rng.randint(1, 2), True)
     run = Run(web)
     while len(run.book()) < many_deeds:
@@ -298,6 +336,9 @@ def random_run(rng, many_hands, many_deeds):
             run.do(("turn", rng.choice(run.names())))
             for k in range(first, run.written()):
                 run.do(("come", k))
+    last = {run.letter(k)[:2]: k for k in range(run.written())}
+    for k in last.values():
+        run.do(("come", k))
     return web, [deed for deed, _ in run.book()]
 
 

@@ -1,5 +1,6 @@
 import random
 import unittest
+from fractions import Fraction
 
 from sumtold.errors import NoDeed
 from sumtold.pairs import row_plus
@@ -19,6 +20,19 @@ def behind(web, *deeds):
     for deed in deeds:
         run.do(deed)
     return run
+
+
+def slow_ways(run, size):
+    """What is on the way and what is astray, account by account."""
+    ways = [[Fraction(0)] * (size + 1), [Fraction(0)] * (size + 1)]
+    for name in run.names():
+        for other in run.others(name):
+            mine, theirs = run.account(name, other), run.account(other, name)
+            is_joined = (mine[0], theirs[0]) == (run.stamp(other, name), run.stamp(name, other))
+            way = ways[0 if is_joined else 1]
+            for at, (given, taken) in enumerate(zip(fractions(mine[2]), fractions(mine[4]))):
+                way[at] += given - taken
+    return ways
 
 
 class WhoIsAskedTest(unittest.TestCase):
@@ -130,6 +144,14 @@ class JointTest(unittest.TestCase):
         self.assertEqual(run.held("b"), ((7, 0), (1, 0)))
         self.assertEqual((run.on_way(), run.astray()), (NOUGHT, NOUGHT))
 
+    def test_a_tie_of_which_one_end_alone_has_seen_the_other_s_stamp(self):
+        run = behind(
+            PAIR, ("turn", "a"), ("come", 0), ("turn", "b"), ("come", 1), ("turn", "a"), ("fresh", "b"), ("come", 2),
+        )
+        self.assertEqual((run.account("b", "a")[0], run.stamp("a", "b")), ((1, 0), (1, 0)))
+        self.assertEqual((run.account("a", "b")[0], run.stamp("b", "a")), ((1, 0), (2, 0)))
+        self.assertEqual((run.on_way(), run.astray()), (NOUGHT, ((3, 2), (1, 2))))
+
     def test_each_tie_by_itself(self):
         run = behind(
             CHAIN, ("turn", "a"), ("come", 0), ("turn", "b"), ("come", 1), ("turn", "c"), ("come", 3), ("turn", "b"),
@@ -156,3 +178,4 @@ class JointTest(unittest.TestCase):
                 self.assertEqual(fractions(run.whole()), whole)
                 rows = [run.held(name) for name in run.names()] + [run.on_way(), run.astray()]
                 self.assertEqual(total(rows, size), whole)
+                self.assertEqual([fractions(run.on_way()), fractions(run.astray())], slow_ways(run, size))
