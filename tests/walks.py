@@ -1,5 +1,7 @@
 """Slow readings of walks and papers, by all walks that there are."""
 
+import itertools
+import math
 from fractions import Fraction
 
 from sumtold.run import Run
@@ -87,3 +89,65 @@ def spell_of(table, begin, end, choose):
     chosen = {ends: choose(table[ends]) for ends in table}
     walks = [(one, other, chosen[one, other][1]) for one, other in sorted(table)]
     return (begin, end, walks), min(part for part, steps in chosen.values())
+
+
+def spell_tables(web, deeds):
+    """Of each two quiet places, rising, the walks between them."""
+    places = itertools.combinations(quiet_places(web, deeds), 2)
+    return {(begin, end): walks_between(web, deeds, begin, end) for begin, end in places}
+
+
+def how_many_papers(tables, behind=0):
+    """How many papers there are that begin at this place or behind it."""
+    many = 1
+    for (begin, end), table in tables.items():
+        if begin >= behind and all(table.values()):
+            many += math.prod(len(walks) for walks in table.values()) * how_many_papers(tables, end)
+    return many
+
+
+def all_papers(tables, behind=0):
+    """All papers that begin at this place or behind it, each choice of walks one by one."""
+    yield []
+    for (begin, end), table in tables.items():
+        ways = sorted(table)
+        if begin >= behind:
+            for chosen in itertools.product(*[table[way] for way in ways]):
+                walks = [(one, other, steps) for (one, other), (_, steps) in zip(ways, chosen)]
+                for rest in all_papers(tables, end):
+                    yield [(begin, end, walks)] + rest
+
+
+def greatest_part(told, begin, end, name, last):
+    """The greatest part of a walk from a hand to a last one between two places, or None; from the end backwards."""
+    ahead = {(end, last): Fraction(1)}
+    for at in range(end - 1, begin - 1, -1):
+        event = told[at]
+        for place, hand in [key for key in ahead if key[0] == at + 1]:
+            ahead[at, hand] = ahead[place, hand]
+        if event and event[0] == "turn":
+            _, turner, gifts = event
+            c = least_c(len(gifts))
+            found = [ahead[at + 1, turner] * (2 ** c - len(gifts))] if (at + 1, turner) in ahead else []
+            for to in gifts:
+                place = stands_from(told, at, end, turner, to, gifts[to])
+                if (place, to) in ahead:
+                    found.append(ahead[place, to])
+            if found:
+                ahead[at, turner] = max(found) / 2 ** c
+    return ahead.get((begin, name))
+
+
+def least_pair(web, deeds):
+    """The least pair that a paper has, as a fraction: of the best walks and all chains of spells."""
+    told = events(web, deeds)
+    quiet = quiet_places(web, deeds)
+    names = sorted(name for name, numbers in web[0])
+    behind = {}
+    for begin in reversed(quiet):
+        behind[begin] = min([behind[place] for place in behind], default=Fraction(1))
+        for end in [place for place in quiet if place > begin]:
+            parts = [greatest_part(told, begin, end, one, other) for one in names for other in names]
+            if None not in parts:
+                behind[begin] = min(behind[begin], (1 - min(parts)) * behind[end])
+    return behind[0]
