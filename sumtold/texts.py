@@ -140,7 +140,7 @@ def read_entry(word):
 
 def read_roll(words):
     roll = tuple(read_entry(word) for word in words)
-    demand(roll and are_rising([entry[0] for entry in roll]), "a roll has entries that rise by names")
+    demand(are_rising([entry[0] for entry in roll]), "the entries of a roll rise by names")
     return roll
 
 

@@ -3,7 +3,7 @@
 import inspect
 import unittest
 
-from sumtold import hand, near, rounds, run
+from sumtold import desk, hand, judge, near, nearlook, rounds, run, texts
 
 METHODS = {
     hand.Hand: {
@@ -14,11 +14,14 @@ METHODS = {
         "do": 1, "names": 0, "others": 1, "is_up": 1, "held": 1, "answer": 1, "sure": 1, "roll": 1, "stamp": 2,
         "account": 2, "sum_of": 1, "letter": 1, "book": 0, "on_way": 0, "astray": 0, "whole": 0,
     },
+    desk.Desk: {"say": 1},
 }
 FUNCTIONS = [
     (hand.Hand, ["name", "numbers", "others"]), (hand.hand_of, ["books"]), (run.Run, ["web"]),
     (rounds.full_round, ["run"]), (rounds.rounds, ["web", "many"]), (rounds.bound, ["web", "many"]),
     (rounds.distance, ["web"]), (rounds.spread, ["run"]), (near.check_near, ["web", "deeds", "paper"]),
+    (nearlook.near_paper, ["web", "deeds"]), (judge.judge, ["web", "book"]), (texts.book_text, ["book"]),
+    (texts.read_book, ["text"]), (desk.Desk, []), (desk.Desk.say, ["self", "row"]),
 ]
 
 

@@ -38,6 +38,21 @@ def round_deeds(web, many):
     return [deed for deed, _ in rounds(web, many).book()]
 
 
+def written_deeds(web, words):
+    """Deeds by words: a is a's turn, +ab the coming of a's first letter to b that has not come yet."""
+    run = Run(web)
+    waiting = {}
+    for word in words.split():
+        if word.startswith("+"):
+            run.do(("come", waiting[word[1:]].pop(0)))
+        else:
+            first = run.written()
+            run.do(("turn", word))
+            for k in range(first, run.written()):
+                waiting.setdefault("".join(run.letter(k)[:2]), []).append(k)
+    return [deed for deed, _ in run.book()]
+
+
 class NearPaperTest(unittest.TestCase):
     def test_no_deeds(self):
         for web in (PAIR, CHAIN, STAR, ([("a", (5,))], [])):
@@ -84,6 +99,31 @@ class NearPaperTest(unittest.TestCase):
         web = (CHAIN[0], CHAIN[1] + [("a", "c")])
         deeds = round_deeds(web, 4)
         self.assertEqual(Fraction(*told_pair(web, deeds)), least_pair(web, deeds))
+
+    def test_begins_at_quiet_places_alone(self):
+        # From place 5 on the walks have greater parts than from place 4 on, but 5 isn't quiet.
+        deeds = written_deeds(PAIR, "a b +ab +ba a a b +ab +ab +ba")
+        self.assertEqual(quiet_places(PAIR, deeds), [0, 1, 2, 3, 4, 10])
+        self.assertEqual(told_pair(PAIR, deeds), (3, 4))
+
+    def test_an_earlier_begin_may_be_the_better_one(self):
+        web = (CHAIN[0], [("a", "b"), ("a", "c"), ("b", "c")])
+        run = Run(web)
+        for name in "abcbcca":
+            turn_and_come(run, name)
+        deeds = [deed for deed, _ in run.book()]
+        self.assertEqual(least_pair(web, deeds), Fraction(7, 8))
+        self.assertEqual(told_pair(web, deeds), (7, 8))
+
+    def test_an_elder_gift_does_not_bring_a_walk(self):
+        # From a on a walk comes to b behind b's first gift to c; only the second one brings it there, behind c's turn.
+        web = ([(name, (1,)) for name in "abcd"], [("a", "b"), ("b", "c"), ("c", "d")])
+        deeds = written_deeds(
+            web, "a b c d +ab +ba +bc +cb +cd +dc  b a +ab b +bc c +cd +cb +bc +ba +ba"
+            "  c +cd +cb d +dc c +cb +cd b +ba +bc a +ab",
+        )
+        self.assertEqual(Fraction(*told_pair(web, deeds)), least_pair(web, deeds))
+        self.assertEqual(told_pair(web, deeds), (63, 64))
 
     def test_more_than_sixty_deeds_are_no_fault(self):
         deeds = round_deeds(PAIR, 20)
